@@ -1,0 +1,74 @@
+"""The examples of DOC.md, with the answers that stand there."""
+
+import doctest
+import unittest
+
+STAGE_1 = '''
+>>> from wherebeen.forms import is_expression, is_house, is_worth
+>>> from wherebeen.worths import all_worths, least_worth, place_of, sorted_worths, with_value, worths_many
+>>> form = (("name", ("word",)), ("tags", ("row", ("word",))), ("mark", ("maybe", ("pick", 2))))
+>>> [least_worth(form), worths_many(form), is_worth(form, ("x", ("a", "b"), (1,))), is_worth(form, ("x", ("a",), 1))]
+[('', (), None), None, True, False]
+>>> [is_expression(form, ("word",), ("else", ("first", 1), ("copy", 0))), is_expression(form, ("word",), ("first", 1))]
+[True, False]
+>>> small = (("mark", ("maybe", ("pick", 2))), ("side", ("pick", 2)))
+>>> [worths_many(small), all_worths(small)[:3], place_of(small, ((1,), 0))]
+[6, [(None, 0), (None, 1), ((0,), 0)], 4]
+>>> [sorted_worths(small, [((0,), 1), (None, 1), ((0,), 1)]), with_value(small, (None, 1), "mark", (0,))]
+[[(None, 1), ((0,), 1)], ((0,), 1)]
+>>> is_house(((small,), ()))
+True
+'''
+
+STAGE_2 = '''
+>>> from wherebeen.reader import read_house, read_turn, read_worth
+>>> from wherebeen.texts import show_expression, show_house, show_value
+>>> one = (("name", ("word",)), ("side", ("pick", 2)))
+>>> other = (("names", ("row", ("word",))),)
+>>> there, back = (("one", ("copy", 0)),), (("else", ("first", 0), ("say", "no #")), ("say", 0))
+>>> house = ((one, other), ((0, 1, there, back),))
+>>> show_house(house).split("\\n")[3:]
+['form', 'field names row word', 'road 0 1', 'there names one copy name', 'back name else first names say "no #"', \
+'back side say 0']
+>>> [read_house(show_house(house)) == house, read_turn(one, other, "names   one copy name # all") == there]
+[True, True]
+>>> [show_value(("row", ("word",)), ('a "b"', "")), show_value(("maybe", ("pick", 3)), (2,)), \
+show_value(("row", ("word",)), ())]
+['[ "a ""b""" "" ]', 'some 2', '[ ]']
+>>> show_expression(one, ("word",), ("when", ("copy", 1), (("copy", 0), ("say", "x"))))
+'when 2 copy side copy name say "x"'
+>>> read_worth(one, 'side 1\\nname "a#b" # here')
+('a#b', 1)
+'''
+
+EXPRESSIONS = '''
+>>> from wherebeen.expressions import put_in, worked
+>>> form = (("name", ("word",)), ("tags", ("row", ("word",))))
+>>> first = (("copy", 0), ("rowof", ("first", 1)))
+>>> worked(first[1], ("x", ("a", "b")))
+('a',)
+>>> put_in(("is", 1), first)
+('is', 1)
+'''
+
+
+class Examples(unittest.TestCase):
+    def check(self, text):
+        test = doctest.DocTestParser().get_doctest(text, {}, "DOC.md", "DOC.md", 0)
+        said = []
+        result = doctest.DocTestRunner(verbose=False).run(test, out=said.append)
+        self.assertGreater(result.attempted, 0)
+        self.assertEqual(result.failed, 0, "".join(said))
+
+    def test_forms_and_worths(self):
+        self.check(STAGE_1)
+
+    def test_texts(self):
+        self.check(STAGE_2)
+
+    def test_expressions(self):
+        self.check(EXPRESSIONS)
+
+
+if __name__ == "__main__":
+    unittest.main()

@@ -1,0 +1,1 @@
+"""Wherebeen: documents that become what they become by where they have been."""
