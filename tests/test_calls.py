@@ -13,6 +13,9 @@ BACK = (("say", "b"), ("say", ("c", "d")), ("some", ("copy", 1)))
 HOUSE = ((FORM, SMALL, FORM), ((0, 1, THERE, BACK), (1, 2, BACK, THERE)))
 EXPRESSION = ("else", ("first", 1), ("say", "n"))
 TURN = (("copy", 0), ("rowof", ("first", 1)), ("say", None))
+BACK_SAID = (("copy", 0), ("copy", 1), ("say", (1,)))
+COPY = tuple(("copy", at) for at in range(3))
+RING = ((FORM,) * 3, ((0, 1, COPY, COPY), (0, 2, COPY, COPY), (1, 2, COPY, COPY)))
 
 CALLS = {
     "forms": [("is_integer", [1]), ("is_name", [["a"]]), ("is_base", [["word"]]), ("is_kind", [["word"]]),
@@ -33,6 +36,18 @@ CALLS = {
                ("read_house", ["form\nfield a word"])],
     "expressions": [("worked", [EXPRESSION, WORTH]), ("parts_many", [EXPRESSION]), ("deep", [EXPRESSION]),
                     ("reads", [EXPRESSION]), ("put_in", [EXPRESSION, TURN])],
+    "turns": [("turned", [TURN, WORTH]), ("plain_turn", [FORM]), ("behind", [TURN, TURN]), ("turn_parts", [TURN])],
+    "probes": [("tests_many", [FORM]), ("tests_of", [FORM]), ("parting_test", [FORM, TURN, BACK_SAID]),
+               ("same_turns", [FORM, TURN, BACK_SAID]), ("matters", [FORM, TURN])],
+    "shapes": [("is_plain", [FORM, TURN]), ("is_settled", [FORM, TURN]), ("change_places", [FORM, TURN, BACK_SAID]),
+               ("comes_back", [FORM, THERE, BACK]), ("kept_fields", [FORM, TURN])],
+    "houses": [("neighbours", [HOUSE, 1]), ("road_between", [HOUSE, 2, 1]), ("road_between", [HOUSE, 2, 0]),
+               ("step_turn", [HOUSE, 1, 0]), ("hangs_together", [HOUSE, (0, 1)]), ("without_roads", [HOUSE, ()]),
+               ("part_of", [HOUSE, (1, 2)]), ("renumbered", [HOUSE, (2, 0, 1)])],
+    "ways": [("led", [HOUSE, (0, 1), WORTH]), ("steps_of", [HOUSE, (0, 1, 2), WORTH]), ("simple_ways", [HOUSE, 0]),
+             ("rings_of", [HOUSE]), ("rings_of", [RING]), ("gone_of", [HOUSE, (2, 1, 0)]), ("return_of", [(0, 1)]),
+             ("turn_of", [HOUSE, (0, 1, 0)]), ("parting_worth", [HOUSE, (0,), (0, 1, 0)]),
+             ("same_ways", [HOUSE, (0,), (0, 1, 0)])],
 }
 
 
@@ -63,6 +78,17 @@ class Calls(unittest.TestCase):
                 spoiled(answer)
                 self.assertEqual(getattr(module, name)(*given), kept, name)
                 self.assertEqual(given, before, name)
+
+    def test_carrier(self):
+        carrier = importlib.import_module("wherebeen.carrier").Carrier(HOUSE)
+        carrier.put("a", 0, WORTH)
+        carrier.go("a", 1)
+        for name, given in (("spot_of", ["a"]), ("worth_of", ["a"]), ("way_of", ["a"]), ("gone_of", ["a"]), ("names_now", []),
+                            ("deeds_done", []), ("copied", [])):
+            answer = getattr(carrier, name)(*given)
+            kept = copy.deepcopy(answer)
+            spoiled(answer)
+            self.assertEqual(getattr(carrier, name)(*given), kept, name)
 
 
 if __name__ == "__main__":

@@ -41,14 +41,44 @@ show_value(("row", ("word",)), ())]
 ('a#b', 1)
 '''
 
-EXPRESSIONS = '''
+STAGE_3 = '''
 >>> from wherebeen.expressions import put_in, worked
+>>> from wherebeen.shapes import change_places, is_settled
+>>> from wherebeen.probes import matters, parting_test, tests_of
+>>> from wherebeen.turns import behind
 >>> form = (("name", ("word",)), ("tags", ("row", ("word",))))
 >>> first = (("copy", 0), ("rowof", ("first", 1)))
->>> worked(first[1], ("x", ("a", "b")))
-('a',)
+>>> [worked(first[1], ("x", ("a", "b"))), tests_of(form)]
+[('a',), [('~0', ()), ('~0', ('~1',)), ('~0', ('~1', '~1~'))]]
+>>> [parting_test(form, (("copy", 0), ("copy", 1)), first), is_settled(form, first)]
+[('~0', ('~1', '~1~')), True]
 >>> put_in(("is", 1), first)
 ('is', 1)
+>>> swapped = (("else", ("first", 1), ("copy", 0)), ("one", ("copy", 0)))
+>>> [behind(first, swapped) == (("else", ("first", 1), ("copy", 0)), ("one", ("copy", 0))), matters(form, swapped)]
+[True, ((0, 1), (0,))]
+>>> change_places(form, first, swapped)
+True
+'''
+
+STAGE_4 = '''
+>>> from wherebeen.carrier import Carrier
+>>> from wherebeen.ways import gone_of, led, parting_worth, return_of, simple_ways, turn_of
+>>> full = (("name", ("word",)), ("tags", ("row", ("word",))))
+>>> card = (("name", ("word",)), ("tag", ("maybe", ("word",))))
+>>> there, back = (("copy", 0), ("first", 1)), (("copy", 0), ("rowof", ("copy", 1)))
+>>> house = ((full, card, card), ((0, 1, there, back), \
+(1, 2, (("copy", 0), ("say", None)), (("copy", 0), ("copy", 1)))))
+>>> [led(house, (0, 1, 0), ("x", ("a", "b"))), gone_of(house, (0, 1, 2, 1)), return_of((0, 1, 2))]
+[('x', ('a',)), (0, 1), (0, 1, 2, 1, 0)]
+>>> [simple_ways(house, 1), parting_worth(house, (0, 1, 0), (0,)), turn_of(house, (0, 1, 0))]
+[[(1, 0), (1, 2)], ('~0', ('~1', '~1~')), (('copy', 0), ('rowof', ('first', 1)))]
+>>> carrier = Carrier(house)
+>>> [carrier.put("d", 0, ("x", ("a", "b"))), carrier.fork("d", "e"), carrier.go("e", 1), carrier.go("e", 0), \
+carrier.worth_of("e")]
+[None, None, None, None, ('x', ('a',))]
+>>> [carrier.way_of("e"), carrier.undo(), carrier.spot_of("e")]
+[(0, 1, 0), ('go', 'e', 0), 1]
 '''
 
 
@@ -66,8 +96,11 @@ class Examples(unittest.TestCase):
     def test_texts(self):
         self.check(STAGE_2)
 
-    def test_expressions(self):
-        self.check(EXPRESSIONS)
+    def test_turns(self):
+        self.check(STAGE_3)
+
+    def test_ways_and_carrier(self):
+        self.check(STAGE_4)
 
 
 if __name__ == "__main__":

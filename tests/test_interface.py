@@ -19,19 +19,49 @@ FUNCTIONS = {
               "read_turn(form, other, text) read_house(text)",
     "expressions": "worked(expression, worth) parts_many(expression) deep(expression) reads(expression) "
                    "put_in(expression, turn)",
+    "turns": "turned(turn, worth) plain_turn(form) behind(turn, later) turn_parts(turn)",
+    "probes": "tests_many(form) tests_of(form) parting_test(form, one, other) same_turns(form, one, other) "
+              "matters(form, turn)",
+    "shapes": "is_plain(form, turn) is_settled(form, turn) change_places(form, one, other) "
+              "comes_back(form, there, back) kept_fields(form, turn)",
+    "houses": "neighbours(house, spot) road_between(house, one, other) step_turn(house, one, other) "
+              "hangs_together(house, lot) without_roads(house, lot) part_of(house, spots) renumbered(house, order)",
+    "ways": "led(house, way, worth) steps_of(house, way, worth) simple_ways(house, spot) rings_of(house) "
+            "gone_of(house, way) return_of(way) turn_of(house, way) parting_worth(house, one, other) "
+            "same_ways(house, one, other)",
 }
+
+CLASSES = {
+    ("carrier", "Carrier"): "__init__(self, house) __eq__(self, other) put(self, name, spot, worth) go(self, name, spot) "
+                            "fork(self, name, fresh) drop(self, name) spot_of(self, name) worth_of(self, name) "
+                            "way_of(self, name) gone_of(self, name) names_now(self) deeds_done(self) undo(self) "
+                            "copied(self)",
+}
+
+
+def calls_of(listed):
+    return listed.replace(") ", ")|").split("|")
 
 
 class Interface(unittest.TestCase):
     def test_functions(self):
         for file, listed in FUNCTIONS.items():
             module = importlib.import_module("wherebeen." + file)
-            for call in listed.replace(") ", ")|").split("|"):
+            for call in calls_of(listed):
                 name = call.partition("(")[0]
                 function = getattr(module, name)
                 self.assertTrue(inspect.isfunction(function), call)
                 self.assertEqual(function.__module__, module.__name__, call)
                 self.assertEqual(name + str(inspect.signature(function)), call)
+
+    def test_classes(self):
+        for (file, name), listed in CLASSES.items():
+            module = importlib.import_module("wherebeen." + file)
+            thing = getattr(module, name)
+            self.assertEqual(thing.__module__, module.__name__)
+            for call in calls_of(listed):
+                method = call.partition("(")[0]
+                self.assertEqual(method + str(inspect.signature(vars(thing)[method])), call)
 
 
 if __name__ == "__main__":

@@ -109,7 +109,7 @@ class Tokens(Reading):
             self.assertEqual(read_value(WORD, text), value)
 
     def test_not_closed(self):
-        for text in ('"', '"a', '"""', '"a""', '"a # "" b', '"a\n"'):
+        for text in ('"', '"a', ' "a', '  "', ' "a""', '"""', '"a""', '"a # "" b', '"a\n"'):
             self.bad(0, read_value, WORD, text)
         self.bad(2, read_value, WORD, '\n#\n"a')
 
@@ -140,8 +140,8 @@ class Values(Reading):
                             (TWO, ["2", "-1", "01", "+1", "00", "-0", "1.0", '"1"', "1 1", "True", "", "some 1", "[ 1 ]"]),
                             (("maybe", TWO), ["1", "some", "some 2", "- 1", "some -", "some 1 1", "[ 1 ]", '"-"', "-1"]),
                             (("maybe", WORD), ["some", "some a", '"a"', "some some \"a\"", '"some" "a"', "some \"a\" -"]),
-                            (("row", TWO), ["[", "]", "[ 1", "[ 1 2 ]", "1", "[ 1 ] ]", "[ 1 ] 1", '"[" ]', "[ - ]", "-"]),
-                            (("row", WORD), ['[ "a"', '[ "a" "]"', '"a" ]', "[ some \"a\" ]", '"a"'])):
+                            (("row", TWO), ["[", "]", "[ 1", "[ 1 2 ]", "1", "[ 1 ] ]", "[ 1 ] 1", '"[" ]', "[ - ]", "-", "some 1"]),
+                            (("row", WORD), ['some "a"', '[ "a"', '[ "a" "]"', '"a" ]', "[ some \"a\" ]", '"a"'])):
             for text in texts:
                 if text:
                     self.bad(0, read_value, kind, text)
@@ -259,9 +259,11 @@ class Turns(Reading):
                        "copy mark", "table [ 1 ] copy side", "else copy side copy side"]),
                 (THREE, ["is tags", "copy side", "else copy mark copy side"]),
                 (("maybe", TWO), ["first tags", "some some copy side", "some copy name", "say 1", "one copy side",
-                                  "else copy mark copy mark", "copy side", "say some", "say - -"]),
+                                  "else copy mark copy mark", "copy side", "say some", "say - -",
+                                  "table [ 1 ] say 0", "table [ - ] say 0", "is mark"]),
                 (("row", WORD), ["some copy name", "rowof copy tags", "rowof copy mark", "one first tags", 'say [ "~" ]',
-                                 "say [ 1 ]", 'say [ "a"', "say ] [", "one one copy name", "table [ ] say 0"])):
+                                 "say [ 1 ]", 'say [ "a"', "say ] [", "one one copy name", "table [ ] say 0",
+                                 "table [ 0 ] say 0", 'table [ "a" ] say 0', "is tags", "else first tags say [ ]"])):
             for text in texts:
                 self.bad(0, read_turn, FORM, (("z", kind),), "z " + text)
 
@@ -373,6 +375,11 @@ class Houses(Reading):
         for many in range(4, len(HOUSE)):
             self.bad(many, read_house, "\n".join(HOUSE[:many]))
         self.bad(12, read_house, "\n".join(HOUSE[:11]) + "\n")
+        self.bad(13, read_house, "\n".join(HOUSE[:12] + HOUSE[13:]))
+
+    def test_a_road_behind_one_that_lacks_a_line(self):
+        for lacking in (8, 9, 10):
+            self.bad(10, read_house, "\n".join(HOUSE[:lacking] + HOUSE[lacking + 1:]))
 
     def test_roads_that_do_not_join_all(self):
         lines = ["form", "field p pick 2"] * 4
