@@ -16,6 +16,10 @@ TURN = (("copy", 0), ("rowof", ("first", 1)), ("say", None))
 BACK_SAID = (("copy", 0), ("copy", 1), ("say", (1,)))
 COPY = tuple(("copy", at) for at in range(3))
 RING = ((FORM,) * 3, ((0, 1, COPY, COPY), (0, 2, COPY, COPY), (1, 2, COPY, COPY)))
+CUT = COPY[:2] + (("say", None),)
+GOOD = ((FORM,) * 3, ((0, 1, CUT, CUT), (0, 2, TURN, TURN), (1, 2, CUT, CUT)))
+BAD = ((FORM,) * 3, ((0, 1, COPY, BACK_SAID), (0, 2, CUT, CUT), (1, 2, COPY, BACK_SAID)))
+FAULT = ("road", 0, 0, ("", (), None))
 
 CALLS = {
     "forms": [("is_integer", [1]), ("is_name", [["a"]]), ("is_base", [["word"]]), ("is_kind", [["word"]]),
@@ -48,6 +52,21 @@ CALLS = {
              ("rings_of", [HOUSE]), ("rings_of", [RING]), ("gone_of", [HOUSE, (2, 1, 0)]), ("return_of", [(0, 1)]),
              ("turn_of", [HOUSE, (0, 1, 0)]), ("parting_worth", [HOUSE, (0,), (0, 1, 0)]),
              ("same_ways", [HOUSE, (0,), (0, 1, 0)])],
+    "returns": [("returned", [HOUSE, (0, 1, 2), WORTH]), ("is_lossless", [HOUSE, (0, 1)]),
+                ("change_returns", [RING, (0, 1), (0, 2)]), ("change_returns", [BAD, (0, 1), (0, 2)]),
+                ("unlike_return", [BAD, (0, 1), (0, 2)]), ("unlike_return", [RING, (0, 1), (0, 1, 2)])],
+    "faults": [("first_fault", [BAD]), ("first_fault", [GOOD]), ("faults_of", [BAD]), ("faults_of", [GOOD]),
+               ("is_fault", [BAD, FAULT]), ("is_fault", [BAD, list(FAULT)]), ("is_fault", [GOOD, {"a": []}]),
+               ("is_good", [GOOD]), ("is_good", [BAD])],
+    "parted": [("is_parted", [BAD, [WORTH, (0, 1), [0, 1]]]), ("is_parted", [BAD, (WORTH, (0, 1), (0, 1, 0, 1))]),
+               ("parted_by", [BAD, FAULT]), ("parted_ways", [BAD]), ("parted_ways", [GOOD])],
+    "outcomes": [("gone_lots", [RING, 1]), ("outcomes", [BAD, 0, WORTH]), ("outcomes", [GOOD, 2, WORTH]),
+                 ("hangs_on_gone", [BAD, 0, WORTH]), ("hangs_on_gone", [GOOD, 0, WORTH]), ("is_good_by_all", [GOOD]),
+                 ("is_good_by_all", [BAD])],
+    "homes": [("passes", [GOOD, 0, WORTH, 0]), ("homes_of", [GOOD, 1, WORTH]), ("homes_of", [RING, 2, WORTH])],
+    "elements": [("element_of", [GOOD, 2, WORTH]), ("lost", [GOOD, (0, WORTH, ()), 2]),
+                 ("home_worth", [GOOD, (0, ("x", (), None), ()), 1]), ("home_worth", [GOOD, (0, WORTH, ()), 1]),
+                 ("is_element", [GOOD, [0, WORTH, [2]]]), ("is_element", [GOOD, (0, WORTH, (2,))])],
 }
 
 

@@ -81,6 +81,39 @@ carrier.worth_of("e")]
 [(0, 1, 0), ('go', 'e', 0), 1]
 '''
 
+STAGE_5 = '''
+>>> from wherebeen.faults import faults_of, first_fault, is_fault, is_good
+>>> from wherebeen.outcomes import gone_lots, outcomes
+>>> from wherebeen.parted import is_parted, parted_ways
+>>> from wherebeen.returns import returned, unlike_return
+>>> form, copy, zero, one = (("p", ("pick", 2)),), (("copy", 0),), (("say", 0),), (("say", 1),)
+>>> house = ((form, form), ((0, 1, zero, zero),))
+>>> [is_good(house), returned(house, (0, 1), (1,)), gone_lots(house, 0)]
+[True, (0,), [(), (0,)]]
+>>> outcomes(house, 0, (1,))
+{((), 0): [(1,)], ((0,), 0): [(0,)], ((0,), 1): [(0,)]}
+>>> [first_fault(((form, form), ((0, 1, copy, zero),))), parted_ways(((form, form), ((0, 1, copy, zero),)))]
+[('road', 0, 0, (1,)), ((1,), (0, 1), (0, 1, 0, 1))]
+>>> fork = ((form, form, form), ((0, 1, zero, zero), (0, 2, one, one)))
+>>> [first_fault(fork), unlike_return(fork, (0, 1), (0, 2)), is_fault(fork, ("returns", (0, 1), (0, 2), (1,)))]
+[('returns', (0, 1), (0, 2), (0,)), (0,), True]
+>>> [parted_ways(fork), is_parted(fork, ((0,), (0, 1, 0), (0, 1, 0, 1, 0)))]
+[((0,), (0, 1, 0, 2, 0), (0, 2, 0, 1, 0)), False]
+'''
+
+STAGE_6 = '''
+>>> from wherebeen.elements import element_of, lost, home_worth
+>>> from wherebeen.homes import homes_of, passes
+>>> form, zero = (("p", ("pick", 2)),), (("say", 0),)
+>>> house = ((form, form, form), ((0, 1, zero, zero), (1, 2, (("copy", 0),), (("copy", 0),))))
+>>> [homes_of(house, 2, (0,)), homes_of(house, 0, (1,)), passes(house, 1, (1,), 0)]
+[[(0, (0,)), (1, (0,)), (2, (0,))], [(0, (1,))], False]
+>>> [element_of(house, 2, (1,)), lost(house, (1, (1,), ()), 0), lost(house, (0, (1,), ()), 1)]
+[(1, (1,), ()), (0, (0,), ()), (0, (1,), (1,))]
+>>> [lost(house, (0, (1,), (1,)), 0), home_worth(house, (0, (0,), ()), 2), home_worth(house, (0, (1,), (1,)), 0)]
+[(0, (0,), ()), (0,), None]
+'''
+
 
 class Examples(unittest.TestCase):
     def check(self, text):
@@ -101,6 +134,12 @@ class Examples(unittest.TestCase):
 
     def test_ways_and_carrier(self):
         self.check(STAGE_4)
+
+    def test_where_been(self):
+        self.check(STAGE_5)
+
+    def test_homes_and_elements(self):
+        self.check(STAGE_6)
 
 
 if __name__ == "__main__":

@@ -29,6 +29,14 @@ FUNCTIONS = {
     "ways": "led(house, way, worth) steps_of(house, way, worth) simple_ways(house, spot) rings_of(house) "
             "gone_of(house, way) return_of(way) turn_of(house, way) parting_worth(house, one, other) "
             "same_ways(house, one, other)",
+    "returns": "returned(house, way, worth) is_lossless(house, way) change_returns(house, way, other) "
+               "unlike_return(house, way, other)",
+    "faults": "first_fault(house) faults_of(house) is_fault(house, thing) is_good(house)",
+    "parted": "is_parted(house, thing) parted_by(house, fault) parted_ways(house)",
+    "outcomes": "gone_lots(house, spot) outcomes(house, spot, worth) hangs_on_gone(house, spot, worth) is_good_by_all(house)",
+    "homes": "passes(house, spot, worth, road) homes_of(house, spot, worth)",
+    "elements": "element_of(house, spot, worth) lost(house, element, road) home_worth(house, element, spot) "
+                "is_element(house, thing)",
 }
 
 CLASSES = {

@@ -1,0 +1,75 @@
+"""Answers come within seconds for houses of six forms and nine roads, with forms of some sixty tests."""
+
+import time
+import unittest
+
+from goods import SIX_NINE, TWO, alike_house
+from samples import WORD
+from wherebeen.elements import element_of, is_element, lost
+from wherebeen.faults import faults_of, first_fault, is_fault
+from wherebeen.homes import homes_of, passes
+from wherebeen.outcomes import gone_lots, hangs_on_gone, is_good_by_all, outcomes
+from wherebeen.parted import is_parted, parted_ways
+from wherebeen.probes import tests_many
+from wherebeen.returns import change_returns, is_lossless, returned
+
+SECONDS = 10
+FORM = (("a", ("pick", 4)), ("b", ("pick", 4)), ("w", WORD), ("m", ("maybe", WORD)), ("t", TWO))
+
+
+def long(at, values):
+    """An expression of sixty parts that changes a pick by these values, and then leaves it as it is."""
+    part = ("table", ("copy", at), values)
+    for _ in range(58):
+        part = ("table", part, tuple(range(len(values))))
+    return part
+
+
+PLAIN = (long(0, (0, 1, 2, 3)), long(1, (0, 1, 2, 3)), ("copy", 2), ("copy", 3), long(4, (0, 1)))
+LOSING = [(long(0, (0, 0, 0, 0)),) + PLAIN[1:], PLAIN[:1] + (long(1, (0, 1, 1, 0)),) + PLAIN[2:], PLAIN,
+          PLAIN[:2] + (("say", "x"), ("say", None)) + PLAIN[4:], PLAIN[:4] + (("say", 1),)]
+TURNING = [(long(0, (1, 2, 3, 0)),) + PLAIN[1:], PLAIN[:2] + (("else", ("copy", 3), ("copy", 2)), ("some", ("copy", 2)),
+                                                             long(4, (1, 0)))]
+GOOD = alike_house(FORM, SIX_NINE, (LOSING * 2)[:9])
+BAD = alike_house(FORM, SIX_NINE, (LOSING[:3] + TURNING) * 2)
+WORTH = (3, 2, "letter", ("tag",), 0)
+WAY = (0, 3, 1, 4, 2, 5) * 10
+
+
+class Speed(unittest.TestCase):
+    def timed(self, call, *given):
+        begun = time.perf_counter()
+        answer = call(*given)
+        self.assertLess(time.perf_counter() - begun, SECONDS, call.__name__)
+        return answer
+
+    def test_form(self):
+        self.assertEqual(tests_many(FORM), 64)
+
+    def test_of_a_good_house(self):
+        self.assertIsNone(self.timed(first_fault, GOOD))
+        self.assertIsNone(self.timed(parted_ways, GOOD))
+        self.assertIs(self.timed(is_good_by_all, GOOD), True)
+        self.assertGreater(len(self.timed(outcomes, GOOD, 0, WORTH)), 1000)
+        self.assertIs(self.timed(hangs_on_gone, GOOD, 0, WORTH), True)
+        self.assertIs(self.timed(passes, GOOD, 0, WORTH, 2), True)
+        self.assertGreater(len(self.timed(homes_of, GOOD, 0, WORTH)), 1)
+        element = self.timed(element_of, GOOD, 5, WORTH)
+        for road in range(9):
+            element = self.timed(lost, GOOD, element, road)
+        self.assertIs(self.timed(is_element, GOOD, element), True)
+        self.assertIs(self.timed(change_returns, GOOD, WAY, WAY[:1] + (4, 1) * 29), True)
+        self.assertIs(self.timed(is_lossless, GOOD, WAY), False)
+        self.assertEqual(self.timed(returned, GOOD, WAY, WORTH)[0], 0)
+
+    def test_of_a_bad_house(self):
+        self.assertGreater(len(self.timed(faults_of, BAD)), 100)
+        self.assertIs(self.timed(is_fault, BAD, self.timed(first_fault, BAD)), True)
+        self.assertIs(self.timed(is_parted, BAD, self.timed(parted_ways, BAD)), True)
+        self.assertIs(self.timed(is_good_by_all, BAD), False)
+        self.assertIs(self.timed(hangs_on_gone, BAD, 0, WORTH), False)
+        self.assertGreater(len(self.timed(gone_lots, BAD, 0)), 300)
+
+
+if __name__ == "__main__":
+    unittest.main()
