@@ -20,6 +20,10 @@ CUT = COPY[:2] + (("say", None),)
 GOOD = ((FORM,) * 3, ((0, 1, CUT, CUT), (0, 2, TURN, TURN), (1, 2, CUT, CUT)))
 BAD = ((FORM,) * 3, ((0, 1, COPY, BACK_SAID), (0, 2, CUT, CUT), (1, 2, COPY, BACK_SAID)))
 FAULT = ("road", 0, 0, ("", (), None))
+FLAT, ZERO = (("copy", 0), ("copy", 1)), (("say", None), ("copy", 1))
+SMALLS = ((SMALL,) * 3, ((0, 1, ZERO, ZERO), (1, 2, FLAT, FLAT)))
+WHOLE = (8, ((0, 1, 2, 3, 4, 5), (0, 1, 6, 7), [0]), ((0,), (1,)))
+SMALL_RING = ((SMALL,) * 3, ((0, 1, ZERO, ZERO), (0, 2, ZERO, FLAT), (1, 2, FLAT, FLAT)))
 
 CALLS = {
     "forms": [("is_integer", [1]), ("is_name", [["a"]]), ("is_base", [["word"]]), ("is_kind", [["word"]]),
@@ -67,6 +71,17 @@ CALLS = {
     "elements": [("element_of", [GOOD, 2, WORTH]), ("lost", [GOOD, (0, WORTH, ()), 2]),
                  ("home_worth", [GOOD, (0, ("x", (), None), ()), 1]), ("home_worth", [GOOD, (0, WORTH, ()), 1]),
                  ("is_element", [GOOD, [0, WORTH, [2]]]), ("is_element", [GOOD, (0, WORTH, (2,))])],
+    "numbers": [("whole_of", [SMALLS]), ("is_whole", [SMALLS, WHOLE]), ("is_whole", [SMALLS, {1: []}])],
+    "hubs": [("hub_of", [SMALLS]), ("hub_size", [SMALLS]), ("is_hub", [SMALLS, WHOLE]), ("is_hub", [SMALLS, [WHOLE]])],
+    "rings": [("least_rings", [RING]), ("still_rings", [RING]), ("still_rings", [SMALL_RING]),
+              ("is_still", [RING, (1, 0, 2, 1)]), ("round_of", [SMALL_RING, (0, 1, 2, 0)])],
+    "shortcuts": [("house_with", [SMALLS, (0, 2, ZERO, FLAT)]), ("road_by", [SMALLS, (0, 1, 2)]),
+                  ("may_add", [SMALLS, (0, 2, ZERO, FLAT)]), ("may_add", [SMALLS, (0, 2, ZERO, ZERO)]),
+                  ("agrees", [SMALLS, (0, 2, ZERO, FLAT), (2, 1, 0)])],
+    "goodlots": [("pieces_of", [BAD, (1,)]), ("house_of", [BAD, ((0, 2), (1,))]), ("is_good_lot", [BAD, (1,)]),
+                 ("greatest_good", [BAD]), ("least_bad", [BAD]), ("fewest_cuts", [BAD])],
+    "fates": [("become", [BAD, 0, WORTH]), ("sure_fields", [BAD, 0]), ("lost_field", [BAD, 0, "name"]),
+              ("lost_field", [GOOD, 0, "mark"]), ("lost_field", [GOOD, 0, "name"])],
 }
 
 

@@ -104,6 +104,8 @@ STAGE_5 = '''
 STAGE_6 = '''
 >>> from wherebeen.elements import element_of, lost, home_worth
 >>> from wherebeen.homes import homes_of, passes
+>>> from wherebeen.hubs import hub_size, is_hub
+>>> from wherebeen.numbers import is_whole, whole_of
 >>> form, zero = (("p", ("pick", 2)),), (("say", 0),)
 >>> house = ((form, form, form), ((0, 1, zero, zero), (1, 2, (("copy", 0),), (("copy", 0),))))
 >>> [homes_of(house, 2, (0,)), homes_of(house, 0, (1,)), passes(house, 1, (1,), 0)]
@@ -112,6 +114,36 @@ STAGE_6 = '''
 [(1, (1,), ()), (0, (0,), ()), (0, (1,), (1,))]
 >>> [lost(house, (0, (1,), (1,)), 0), home_worth(house, (0, (0,), ()), 2), home_worth(house, (0, (1,), (1,)), 0)]
 [(0, (0,), ()), (0,), None]
+>>> [hub_size(house), is_hub(house, (3, ((0, 1), (0, 2), (0, 2)), ((0, 1, 0), (0, 0, 2), (0, 0, 2))))]
+[3, True]
+>>> [is_whole(house, whole_of(house)), is_whole(house, (3, ((0, 1), (0, 2), (0, 2)), ((0, 0, 0), (0, 1, 2))))]
+[True, True]
+'''
+
+STAGE_7 = '''
+>>> from wherebeen.goodlots import fewest_cuts, greatest_good, least_bad, pieces_of
+>>> from wherebeen.rings import is_still, least_rings, round_of, still_rings
+>>> from wherebeen.shortcuts import may_add, road_by
+>>> form, copy, flip = (("p", ("pick", 2)),), (("copy", 0),), (("table", ("copy", 0), (1, 0)),)
+>>> chain = ((form, form, form), ((0, 1, copy, copy), (1, 2, copy, copy)))
+>>> [may_add(chain, (0, 2, flip, flip)), may_add(chain, road_by(chain, (0, 1, 2)))]
+[('ring', (0, 1, 2, 0), (0,)), None]
+>>> house = ((form, form, form), ((0, 1, copy, copy), (0, 2, flip, flip), (1, 2, copy, copy)))
+>>> [least_rings(house), still_rings(house), is_still(house, (0, 1, 2, 0)), round_of(house, (0, 1, 2, 0))]
+[[(0, 1, 2, 0)], [], False, {(0,): (1,), (1,): (0,)}]
+>>> [greatest_good(house), least_bad(house), fewest_cuts(house)]
+[[(0, 1), (0, 2), (1, 2)], [(0, 1, 2)], (0,)]
+>>> pieces_of(house, (1,))
+[((0, 2), (1,)), ((1,), ())]
+'''
+
+STAGE_8 = '''
+>>> from wherebeen.fates import lost_field, sure_fields
+>>> form = (("a", ("pick", 2)), ("b", ("pick", 2)), ("c", ("word",)))
+>>> left, right = (("say", 0), ("copy", 1), ("copy", 2)), (("copy", 0), ("say", 0), ("copy", 2))
+>>> house = ((form, form, form), ((0, 1, left, left), (0, 2, right, right)))
+>>> [sure_fields(house, 0), lost_field(house, 0, "a"), lost_field(house, 0, "c")]
+[('c',), ((0, 1, 0), (1, 0, '~2')), None]
 '''
 
 
@@ -138,8 +170,14 @@ class Examples(unittest.TestCase):
     def test_where_been(self):
         self.check(STAGE_5)
 
-    def test_homes_and_elements(self):
+    def test_homes_and_wholes(self):
         self.check(STAGE_6)
+
+    def test_rings_and_lots(self):
+        self.check(STAGE_7)
+
+    def test_fates(self):
+        self.check(STAGE_8)
 
 
 if __name__ == "__main__":

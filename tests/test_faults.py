@@ -164,12 +164,28 @@ class IsFault(unittest.TestCase):
         for ring in ((0, 1, 2), (0, 1, 0), (0, 1, 2, 1), (0, 1, 2, 0, 1, 2, 0), (0, 1, 0, 2, 1, 0), (0,), (), [0, 1, 2, 0],
                      (0, 1, 2, 0, 0), (0, 1, 2, 3), (0, 2, 1, 2, 0), ((0,), 1, 2, (0,)), "0120", (0, 1, 2, 1, 0)):
             self.assertIs(is_fault(TURNING, ("ring", ring, (0,))), False, ring)
+        # each of these would come out unlike
+        self.assertNotEqual(told_led(BACK_FLIPS, (0, 1, 0), (0,)), told_led(BACK_FLIPS, (0, 1, 0, 1, 0), (0,)))
+        self.assertIs(is_fault(BACK_FLIPS, ("ring", (0, 1, 0), (0,))), False)
+        self.assertNotEqual(told_led(UNLIKE, (0, 1, 0, 2), (0,)), told_led(UNLIKE, (0, 1, 0, 2, 0, 1, 0), (0,)))
+        self.assertIs(is_fault(UNLIKE, ("ring", (0, 1, 0, 2), (0,))), False)
 
     def test_any_values(self):
         for thing in things() + [("road",), ("ring", (0, 1, 2, 0)), ("road", 0, 0), ("returns", (0, 1), (0, 2)), "road",
                                  ("ring", (0, 1, 2, 0), (0,), (0,)), ("lost", 0, 0, (1,)), (0, 0, 0, (1,)), TURNING]:
             for house in (ROAD, UNLIKE, TURNING, ALONE):
                 self.assertIs(is_fault(house, thing), False, thing)
+
+    def test_lacking_or_too_much(self):
+        pair = (("a", ("pick", 3)), ("b", ("pick", 3)))
+        zeros, ones = (("say", 0),) * 2, (("say", 1),) * 2
+        house = alike_house(pair, [(0, 1), (0, 2)], [zeros, ones], 3)
+        self.assertIs(is_fault(house, ("returns", (0, 1), (0, 2), (0, 2))), True)
+        # the latter way would be a worth, too
+        self.assertIs(is_fault(house, ("returns", (0, 1), (0, 2))), False)
+        for thing in (("lost", (0, 1), (0, 2), (0, 2)), ("ring", (0, 1), (0, 2), (0, 2)), ("road", (0, 1), (0, 2), (0, 2)),
+                      ("returns", (0, 1), (0, 2), (0, 2), (0, 2)), ("returns", (0, 2), (0, 1), (0, 2)), (0, (0, 1), (0, 2), (0, 2))):
+            self.assertIs(is_fault(house, thing), False, thing)
 
     def test_by_chance(self):
         rows = []

@@ -37,6 +37,13 @@ FUNCTIONS = {
     "homes": "passes(house, spot, worth, road) homes_of(house, spot, worth)",
     "elements": "element_of(house, spot, worth) lost(house, element, road) home_worth(house, element, spot) "
                 "is_element(house, thing)",
+    "numbers": "is_whole(house, thing) whole_of(house)",
+    "hubs": "is_hub(house, thing) hub_of(house) hub_size(house)",
+    "rings": "least_rings(house) still_rings(house) is_still(house, ring) round_of(house, ring)",
+    "shortcuts": "house_with(house, road) road_by(house, way) may_add(house, road) agrees(house, road, way)",
+    "goodlots": "pieces_of(house, lot) greatest_good(house) least_bad(house) house_of(house, piece) fewest_cuts(house) "
+                "is_good_lot(house, lot)",
+    "fates": "become(house, spot, worth) sure_fields(house, spot) lost_field(house, spot, name)",
 }
 
 CLASSES = {

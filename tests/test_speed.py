@@ -6,12 +6,18 @@ import unittest
 from goods import SIX_NINE, TWO, alike_house
 from samples import WORD
 from wherebeen.elements import element_of, is_element, lost
+from wherebeen.fates import become, lost_field, sure_fields
 from wherebeen.faults import faults_of, first_fault, is_fault
+from wherebeen.goodlots import fewest_cuts, greatest_good, is_good_lot, least_bad
 from wherebeen.homes import homes_of, passes
+from wherebeen.hubs import hub_of, hub_size, is_hub
+from wherebeen.numbers import is_whole, whole_of
 from wherebeen.outcomes import gone_lots, hangs_on_gone, is_good_by_all, outcomes
 from wherebeen.parted import is_parted, parted_ways
 from wherebeen.probes import tests_many
 from wherebeen.returns import change_returns, is_lossless, returned
+from wherebeen.rings import is_still, round_of, still_rings
+from wherebeen.shortcuts import agrees, may_add, road_by
 
 SECONDS = 10
 FORM = (("a", ("pick", 4)), ("b", ("pick", 4)), ("w", WORD), ("m", ("maybe", WORD)), ("t", TWO))
@@ -69,6 +75,44 @@ class Speed(unittest.TestCase):
         self.assertIs(self.timed(is_good_by_all, BAD), False)
         self.assertIs(self.timed(hangs_on_gone, BAD, 0, WORTH), False)
         self.assertGreater(len(self.timed(gone_lots, BAD, 0)), 300)
+
+    def test_of_a_ring(self):
+        form = FORM[:2] + (("m", ("maybe", TWO)), ("t", ("pick", 1)))
+        turns = [turn[:2] + (("copy", 2), ("copy", 3)) for turn in LOSING[:3] + TURNING[:1]]
+        house = alike_house(form, [(0, 1), (0, 3), (1, 2), (2, 3)], turns[:3] + turns[:1], 4)
+        self.assertEqual(tests_many(form), 48)
+        self.assertIs(self.timed(is_whole, house, self.timed(whole_of, house)), True)
+        self.assertIs(self.timed(is_still, house, (0, 1, 2, 3, 0)), True)
+        self.assertEqual(len(self.timed(still_rings, house)), 1)
+        self.assertGreater(len(self.timed(round_of, house, (0, 1, 2, 3, 0))), 1)
+        self.assertGreater(sum(map(len, self.timed(become, house, 0, (1, 2, None, 0)).values())), 4)
+        self.assertEqual(self.timed(sure_fields, house, 0), ("m", "t"))
+        tree = alike_house(form, [(0, 1), (1, 2), (2, 3)], turns[:3], 4)
+        self.assertIs(self.timed(is_hub, tree, self.timed(hub_of, tree)), True)
+        self.assertEqual(self.timed(hub_size, tree), 4 * 48 - 12 - 24 - 48)
+        bad = alike_house(form, [(0, 1), (0, 3), (1, 2), (2, 3)], turns, 4)
+        self.assertEqual(len(self.timed(still_rings, bad)), 0)
+        self.assertIsNotNone(self.timed(lost_field, bad, 0, "a"))
+
+    def test_of_lots(self):
+        seven = (BAD[0], BAD[1][:6] + BAD[1][8:])
+        self.assertGreater(len(self.timed(greatest_good, seven)), 1)
+        self.assertGreater(len(self.timed(least_bad, seven)), 1)
+        self.assertGreater(len(self.timed(fewest_cuts, seven)), 0)
+        self.assertIs(self.timed(is_good_lot, BAD, tuple(range(9))), False)
+        self.assertIs(self.timed(is_good_lot, GOOD, tuple(range(9))), True)
+        self.assertGreater(sum(map(len, self.timed(become, BAD, 0, WORTH).values())), 90)
+        self.assertEqual(self.timed(sure_fields, BAD, 0), ())
+        self.assertIsNotNone(self.timed(lost_field, BAD, 5, "w"))
+
+    def test_of_roads_more(self):
+        eight = (GOOD[0], GOOD[1][:8])
+        road = GOOD[1][8]
+        self.assertIsNone(self.timed(may_add, eight, road))
+        self.assertIs(self.timed(agrees, eight, road, (2, 3, 0, 5)), True)
+        self.assertIsNotNone(self.timed(may_add, eight, road[:2] + (TURNING[0], TURNING[0])))
+        self.assertEqual(self.timed(road_by, alike_house(FORM, SIX_NINE, [PLAIN[:1] + (("copy", 1),) + PLAIN[2:4] + (
+            ("copy", 4),)] * 9), (0, 3, 1))[:2], (0, 1))
 
 
 if __name__ == "__main__":
