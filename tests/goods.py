@@ -159,3 +159,36 @@ def told_rings(house):
 
 def told_lots(many):
     return [lot for size in range(many + 1) for lot in itertools.combinations(range(many), size)]
+
+
+SQUARE = (("a", TWO), ("b", TWO))
+CORNERS = ((0, 0), (0, 1), (1, 0), (1, 1))
+SETTLED_MAPS = [row for row in itertools.product(range(4), repeat=4) if all(row[item] == item for item in row)]
+ALL_MAPS = list(itertools.product(range(4), repeat=4))
+
+
+def turn_for(row):
+    """The turn of a SQUARE into itself that leads each corner to the one whose index row has there."""
+    return tuple(("when", ("copy", 0), tuple(
+        ("table", ("copy", 1), tuple(CORNERS[row[2 * a + b]][at] for b in (0, 1))) for a in (0, 1))) for at in (0, 1))
+
+
+def any_square_house(chance, spots=4, tree=False):
+    """A house of SQUAREs whose roads have no faults alone; each there and back is settled, or turned by one permutation."""
+    many = chance.randint(1, spots)
+    roads = []
+    for one, other in any_pairs(chance, many, 9, tree):
+        row = chance.choice(SETTLED_MAPS)
+        order = chance.sample(range(4), 4) if chance.random() < 0.3 else list(range(4))
+        # there: lose, then count anew; back: count back, then lose
+        there = [order[row[at]] for at in range(4)]
+        back = [row[order.index(at)] for at in range(4)]
+        roads.append((one, other, turn_for(there), turn_for(back)))
+    return ((SQUARE,) * many, tuple(roads))
+
+
+def any_good_square_house(chance, spots=4, tree=False):
+    while True:
+        house = any_square_house(chance, spots, tree)
+        if told_good(house):
+            return house

@@ -23,6 +23,7 @@ FAULT = ("road", 0, 0, ("", (), None))
 FLAT, ZERO = (("copy", 0), ("copy", 1)), (("say", None), ("copy", 1))
 SMALLS = ((SMALL,) * 3, ((0, 1, ZERO, ZERO), (1, 2, FLAT, FLAT)))
 WHOLE = (8, ((0, 1, 2, 3, 4, 5), (0, 1, 6, 7), [0]), ((0,), (1,)))
+ONES = (("say", (1,)), ("copy", 1))
 SMALL_RING = ((SMALL,) * 3, ((0, 1, ZERO, ZERO), (0, 2, ZERO, FLAT), (1, 2, FLAT, FLAT)))
 
 CALLS = {
@@ -82,6 +83,23 @@ CALLS = {
                  ("greatest_good", [BAD]), ("least_bad", [BAD]), ("fewest_cuts", [BAD])],
     "fates": [("become", [BAD, 0, WORTH]), ("sure_fields", [BAD, 0]), ("lost_field", [BAD, 0, "name"]),
               ("lost_field", [GOOD, 0, "mark"]), ("lost_field", [GOOD, 0, "name"])],
+    "goneback": [("gone_back", [GOOD, 0, WORTH, (0, 1)]), ("gone_to", [GOOD, 0, WORTH, (0, 2), 2]),
+                 ("merging_lots", [GOOD, 0, WORTH, ("x", ("a",), None)]), ("merging_lots", [GOOD, 0, WORTH, WORTH])],
+    "pasts": [("pasts_of", [GOOD, 1, ("x", (), None)]), ("greatest_past", [GOOD, 1, ("x", (), None)]),
+              ("surely_not_gone", [GOOD, 1, WORTH]), ("first_worth", [GOOD, 1, ("x", (), None), (0, 1), 2])],
+    "joining": [("joined", [SMALLS, 1, SMALL_RING, 2]), ("spots_joined", [GOOD, 1, RING, 0]),
+                ("join_fault", [GOOD, 0, GOOD, 2]), ("join_fault", [SMALLS, 0, ((SMALL,) * 2, ((0, 1, ONES, ONES),)), 1])],
+    "charters": [("is_charter", [FORM, (CUT, TURN)]), ("is_charter", [FORM, [CUT, list(TURN)]]),
+                 ("lot_of", [FORM, (CUT, TURN), TURN]), ("lot_of", [FORM, (CUT,), BACK_SAID]),
+                 ("breaking_way", [GOOD, 0, (TURN,)]), ("breaking_way", [GOOD, 0, (TURN, CUT)]),
+                 ("greatest_charters", [FORM, (CUT, BACK_SAID, TURN)])],
+    "newforms": [("with_form", [GOOD, 0, SMALL, THERE, BACK]), ("looking_form", [GOOD, 1, TURN]),
+                 ("form_fault", [GOOD, 0, FORM, COPY, BACK_SAID]), ("form_fault", [GOOD, 0, FORM, CUT, CUT]),
+                 ("form_fault", [GOOD, 1, FORM, BACK_SAID, BACK_SAID]), ("clash", [FORM, CUT, BACK_SAID]),
+                 ("clash", [FORM, CUT, TURN])],
+    "deeds": [("is_deed", [GOOD, (0, TURN)]), ("is_deed", [GOOD, [0, TURN]]), ("is_deed", [GOOD, {0: [TURN]}]),
+              ("keeps_order", [GOOD, (0, TURN)]), ("unlike_deed", [GOOD, (0, BACK_SAID)]), ("unlike_deed", [GOOD, (0, CUT)]),
+              ("deed_by", [GOOD, (0, BACK_SAID), (2, 1, 0)])],
 }
 
 

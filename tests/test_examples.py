@@ -139,11 +139,40 @@ STAGE_7 = '''
 
 STAGE_8 = '''
 >>> from wherebeen.fates import lost_field, sure_fields
+>>> from wherebeen.goneback import gone_back, gone_to, merging_lots
+>>> from wherebeen.pasts import first_worth, greatest_past, pasts_of, surely_not_gone
 >>> form = (("a", ("pick", 2)), ("b", ("pick", 2)), ("c", ("word",)))
 >>> left, right = (("say", 0), ("copy", 1), ("copy", 2)), (("copy", 0), ("say", 0), ("copy", 2))
 >>> house = ((form, form, form), ((0, 1, left, left), (0, 2, right, right)))
 >>> [sure_fields(house, 0), lost_field(house, 0, "a"), lost_field(house, 0, "c")]
 [('c',), ((0, 1, 0), (1, 0, '~2')), None]
+>>> [gone_back(house, 0, (1, 1, "x"), (0, 1)), gone_to(house, 1, (1, 1, "x"), (0, 1), 2)]
+[(0, 0, 'x'), (0, 0, 'x')]
+>>> [merging_lots(house, 0, (1, 1, "x"), (0, 1, "x")), merging_lots(house, 0, (1, 1, "x"), (1, 1, "y"))]
+[[(0,)], []]
+>>> [pasts_of(house, 0, (0, 1, "x")), greatest_past(house, 0, (0, 1, "x")), surely_not_gone(house, 0, (0, 1, "x"))]
+[[(), (0,)], (0,), (1,)]
+>>> pasts_of(house, 1, (0, 0, "x"))
+[(), (0,), (0, 1)]
+'''
+
+STAGE_9 = '''
+>>> from wherebeen.charters import breaking_way, greatest_charters, is_charter, lot_of
+>>> from wherebeen.joining import join_fault, joined, spots_joined
+>>> from wherebeen.newforms import clash, looking_form
+>>> form = (("a", ("pick", 2)), ("b", ("pick", 2)))
+>>> a, b = (("say", 0), ("copy", 1)), (("copy", 0), ("say", 0))
+>>> swap, led = (("copy", 1), ("copy", 0)), (("copy", 1), ("copy", 1))
+>>> [is_charter(form, (a, b)), is_charter(form, (swap,)), greatest_charters(form, (a, b, swap, led))]
+[True, False, [(0, 1), (3,)]]
+>>> [lot_of(form, (a, b), (("say", 0), ("say", 0))), lot_of(form, (a, b), swap), clash(form, a, b)]
+[(0, 1), None, None]
+>>> house = ((form,), ())
+>>> one, other = looking_form(house, 0, a), looking_form(house, 0, led)
+>>> [breaking_way(one, 0, (a,)), breaking_way(one, 1, (b,)), join_fault(one, 0, other, 0)[:2]]
+[None, (1, 0), ((0, 1), (0, 1))]
+>>> [spots_joined(one, 1, other, 0), joined(one, 1, other, 0)[1] == ((0, 1, a, a), (1, 2, led, led))]
+[[1, 2], True]
 '''
 
 
@@ -176,8 +205,11 @@ class Examples(unittest.TestCase):
     def test_rings_and_lots(self):
         self.check(STAGE_7)
 
-    def test_fates(self):
+    def test_fates_and_pasts(self):
         self.check(STAGE_8)
+
+    def test_joining(self):
+        self.check(STAGE_9)
 
 
 if __name__ == "__main__":

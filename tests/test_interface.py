@@ -44,6 +44,17 @@ FUNCTIONS = {
     "goodlots": "pieces_of(house, lot) greatest_good(house) least_bad(house) house_of(house, piece) fewest_cuts(house) "
                 "is_good_lot(house, lot)",
     "fates": "become(house, spot, worth) sure_fields(house, spot) lost_field(house, spot, name)",
+    "goneback": "gone_back(house, spot, worth, lot) gone_to(house, spot, worth, lot, last) "
+                "merging_lots(house, spot, one, other)",
+    "pasts": "pasts_of(house, spot, worth) greatest_past(house, spot, worth) surely_not_gone(house, spot, worth) "
+             "first_worth(house, spot, worth, lot, first)",
+    "joining": "joined(house, spot, other, its_spot) spots_joined(house, spot, other, its_spot) "
+               "join_fault(house, spot, other, its_spot)",
+    "charters": "is_charter(form, thing) lot_of(form, charter, turn) breaking_way(house, spot, charter) "
+                "greatest_charters(form, turns)",
+    "newforms": "with_form(house, spot, form, there, back) looking_form(house, spot, turn) "
+                "form_fault(house, spot, form, there, back) clash(form, one, other)",
+    "deeds": "is_deed(house, thing) keeps_order(house, deed) unlike_deed(house, deed) deed_by(house, deed, way)",
 }
 
 CLASSES = {

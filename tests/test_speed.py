@@ -3,17 +3,23 @@
 import time
 import unittest
 
-from goods import SIX_NINE, TWO, alike_house
+from goods import SIX_NINE, TWO, alike_house, all_copied
 from samples import WORD
+from wherebeen.charters import breaking_way, greatest_charters, is_charter, lot_of
+from wherebeen.deeds import deed_by, keeps_order, unlike_deed
 from wherebeen.elements import element_of, is_element, lost
 from wherebeen.fates import become, lost_field, sure_fields
 from wherebeen.faults import faults_of, first_fault, is_fault
 from wherebeen.goodlots import fewest_cuts, greatest_good, is_good_lot, least_bad
+from wherebeen.goneback import gone_back, gone_to, merging_lots
 from wherebeen.homes import homes_of, passes
 from wherebeen.hubs import hub_of, hub_size, is_hub
+from wherebeen.joining import join_fault
+from wherebeen.newforms import clash, form_fault
 from wherebeen.numbers import is_whole, whole_of
 from wherebeen.outcomes import gone_lots, hangs_on_gone, is_good_by_all, outcomes
 from wherebeen.parted import is_parted, parted_ways
+from wherebeen.pasts import first_worth, greatest_past, pasts_of, surely_not_gone
 from wherebeen.probes import tests_many
 from wherebeen.returns import change_returns, is_lossless, returned
 from wherebeen.rings import is_still, round_of, still_rings
@@ -38,6 +44,7 @@ TURNING = [(long(0, (1, 2, 3, 0)),) + PLAIN[1:], PLAIN[:2] + (("else", ("copy", 
                                                              long(4, (1, 0)))]
 GOOD = alike_house(FORM, SIX_NINE, (LOSING * 2)[:9])
 BAD = alike_house(FORM, SIX_NINE, (LOSING[:3] + TURNING) * 2)
+RING = alike_house(FORM, [(0, 1), (0, 3), (1, 2), (2, 3)], LOSING[:2] + LOSING[3:], 4)
 WORTH = (3, 2, "letter", ("tag",), 0)
 WAY = (0, 3, 1, 4, 2, 5) * 10
 
@@ -113,6 +120,32 @@ class Speed(unittest.TestCase):
         self.assertIsNotNone(self.timed(may_add, eight, road[:2] + (TURNING[0], TURNING[0])))
         self.assertEqual(self.timed(road_by, alike_house(FORM, SIX_NINE, [PLAIN[:1] + (("copy", 1),) + PLAIN[2:4] + (
             ("copy", 4),)] * 9), (0, 3, 1))[:2], (0, 1))
+
+    def test_of_roads_gone(self):
+        for house in (RING, GOOD):
+            lot = tuple(range(len(house[1])))
+            lost_worth = self.timed(gone_back, house, 0, WORTH, lot)
+            self.assertEqual(self.timed(gone_to, house, 0, WORTH, lot, 2), lost_worth)
+            self.assertGreater(len(self.timed(merging_lots, house, 0, WORTH, lost_worth)), 0)
+            self.assertGreater(len(self.timed(pasts_of, house, 1, lost_worth)), 10)
+            self.assertEqual(self.timed(greatest_past, house, 1, lost_worth), lot)
+            self.assertEqual(self.timed(surely_not_gone, house, 1, lost_worth), ())
+            self.assertEqual(self.timed(first_worth, house, 1, lost_worth, lot, 3), lost_worth)
+
+    def test_of_joining(self):
+        for house in (RING, GOOD):
+            self.assertIsNone(self.timed(join_fault, house, 0, house, 1))
+            self.assertIsNone(self.timed(breaking_way, house, 0, tuple(LOSING)))
+            self.assertIsNone(self.timed(form_fault, house, 2, FORM, LOSING[3], LOSING[3]))
+            self.assertIs(self.timed(keeps_order, house, (1, LOSING[1])), True)
+            self.assertIsNotNone(self.timed(unlike_deed, house, (1, TURNING[0])))
+        eight, short = tuple((LOSING * 2)[:8]), (("say", 3), ("copy", 1), ("copy", 2), ("say", None), ("say", 0))
+        self.assertIs(self.timed(is_charter, FORM, eight), True)
+        self.assertEqual(self.timed(lot_of, FORM, eight, LOSING[3]), (2, 3, 7))
+        self.assertEqual(len(self.timed(greatest_charters, FORM, tuple((LOSING * 3)[:11] + [short]))), 2)
+        self.assertIsNotNone(self.timed(clash, FORM, LOSING[0], short))
+        plain = alike_house(FORM, SIX_NINE, [all_copied(FORM)] * 9)
+        self.assertEqual(self.timed(deed_by, plain, (5, LOSING[0]), (0, 3, 1, 4, 2, 5)), (0, LOSING[0]))
 
 
 if __name__ == "__main__":

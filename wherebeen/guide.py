@@ -3,7 +3,7 @@
 from wherebeen.errors import TooMany
 from wherebeen.houses import neighbours, step_turn
 from wherebeen.probes import tests_many, tests_of
-from wherebeen.turns import turned
+from wherebeen.turns import turned, turned_by_all
 
 
 def ask_few(house):
@@ -17,16 +17,17 @@ class Guide:
 
     It is made of a house whose forms have no more than 500 tests each; of any other one TooMany(500) is raised. The
     tests of a form come up ahead of all its other worths, in order. Those of a FINITE form are all its worths, in
-    order, so that the number of such a worth is its place.
+    order, so that the number of such a worth is its place. If some forms are told, only these are asked for tests; it
+    has none of the others.
     """
 
-    def __init__(self, house):
-        ask_few(house)
+    def __init__(self, house, spots=None):
         forms = house[0]
+        asked = list(range(len(forms))) if spots is None else spots
         self.house = house
         self.near = [neighbours(house, spot) for spot in range(len(forms))]
-        self.tests = [list(range(tests_many(form))) for form in forms]
-        self._worths = [tests_of(form) for form in forms]
+        self._worths = [tests_of(form) if spot in asked else [] for spot, form in enumerate(forms)]
+        self.tests = [list(range(len(worths))) for worths in self._worths]
         self._numbers = [{worth: number for number, worth in enumerate(worths)} for worths in self._worths]
         pairs = [(spot, near) for spot in range(len(forms)) for near in self.near[spot]]
         self._turns = {(spot, near): step_turn(house, spot, near) for spot, near in pairs}
@@ -91,3 +92,30 @@ class Guide:
         """The first test of the first form of two ways that becomes unlike by them, or None."""
         tests = self.tests[one[0]]
         return self.first_unlike(one[0], self.led_all(one, tests), self.led_all(other, tests))
+
+
+class Doing:
+    """Something that is done in a form to the worths that a guide numbers, and what came of each.
+
+    lead tells what comes of a worth; it is asked only once for each.
+    """
+
+    def __init__(self, guide, spot, lead):
+        self._guide = guide
+        self._spot = spot
+        self._lead = lead
+        self._outcomes = {}
+
+    def done_all(self, numbers):
+        """The list of what comes of some worths."""
+        lead = self._lead
+        for number in numbers:
+            if number not in self._outcomes:
+                worth = lead(self._guide.worth_for(self._spot, number))
+                self._outcomes[number] = self._guide.number_for(self._spot, worth)
+        return [self._outcomes[number] for number in numbers]
+
+
+def doing_of(guide, spot, turns):
+    """What some turns do in a form that leads into itself by them, one behind the other."""
+    return Doing(guide, spot, lambda worth: turned_by_all(turns, worth))

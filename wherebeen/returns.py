@@ -1,7 +1,7 @@
 """The returns by ways: all of a way, and then back to its first form."""
 
 from wherebeen.guide import Guide, ask_few
-from wherebeen.ways import led, return_of
+from wherebeen.ways import led, return_of, simple_ways
 
 
 def returned(house, way, worth):
@@ -28,3 +28,18 @@ def unlike_return(house, way, other):
 def change_returns(house, way, other):
     """Whether the returns by two ways with one first form change places."""
     return unlike_return(house, way, other) is None
+
+
+def unlike_way(guide, spot, doing):
+    """The least simple way from a form whose return does not change places with what is done there, or None.
+
+    It is a tuple of the way and of the first test for which both orders give unlike worths.
+    """
+    tests = guide.tests[spot]
+    done = doing.done_all(tests)
+    for way in simple_ways(guide.house, spot):
+        back_first = doing.done_all(guide.returned_all(way, tests))
+        test = guide.first_unlike(spot, guide.returned_all(way, done), back_first)
+        if test is not None:
+            return (way, test)
+    return None
