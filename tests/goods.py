@@ -192,3 +192,27 @@ def any_good_square_house(chance, spots=4, tree=False):
         house = any_square_house(chance, spots, tree)
         if told_good(house):
             return house
+
+
+THREE = (("p", ("pick", 3)),)
+
+
+def three_turn(row):
+    """The turn of a THREE into itself that leads each worth to the one that row has there."""
+    return (("table", ("copy", 0), tuple(row)),)
+
+
+def any_good_three_house(chance, spots=3):
+    """A good house of THREEs, mostly with rings."""
+    settled = [row for row in itertools.product(range(3), repeat=3) if all(row[item] == item for item in row)]
+    while True:
+        many = chance.randint(1, spots)
+        pairs = [pair for pair in itertools.combinations(range(many), 2) if pair[1] == pair[0] + 1 or chance.random() < 0.7]
+        roads = []
+        for one, other in pairs:
+            row, order = chance.choice(settled), chance.choice(((0, 1, 2), (0, 1, 2), (1, 2, 0), (1, 0, 2)))
+            there, back = [order[item] for item in row], [row[order.index(at)] for at in range(3)]
+            roads.append((one, other, three_turn(there), three_turn(back)))
+        house = ((THREE,) * many, tuple(roads))
+        if told_good(house):
+            return house

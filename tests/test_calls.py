@@ -24,6 +24,9 @@ FLAT, ZERO = (("copy", 0), ("copy", 1)), (("say", None), ("copy", 1))
 SMALLS = ((SMALL,) * 3, ((0, 1, ZERO, ZERO), (1, 2, FLAT, FLAT)))
 WHOLE = (8, ((0, 1, 2, 3, 4, 5), (0, 1, 6, 7), [0]), ((0,), (1,)))
 ONES = (("say", (1,)), ("copy", 1))
+CUTS = ((FORM,) * 3, ((0, 1, CUT, CUT), (0, 2, TURN, TURN)))
+FEW = (((("m", ("maybe", TWO)),),) * 3, ((0, 1, (("say", None),), (("say", None),)), (0, 2, (("copy", 0),), (("copy", 0),))))
+ROW = (0, (("go", 1), ("do", 0), ("go", 2), ("go", 0), ("do", 0), ("go", 1)))
 SMALL_RING = ((SMALL,) * 3, ((0, 1, ZERO, ZERO), (0, 2, ZERO, FLAT), (1, 2, FLAT, FLAT)))
 
 CALLS = {
@@ -100,6 +103,17 @@ CALLS = {
     "deeds": [("is_deed", [GOOD, (0, TURN)]), ("is_deed", [GOOD, [0, TURN]]), ("is_deed", [GOOD, {0: [TURN]}]),
               ("keeps_order", [GOOD, (0, TURN)]), ("unlike_deed", [GOOD, (0, BACK_SAID)]), ("unlike_deed", [GOOD, (0, CUT)]),
               ("deed_by", [GOOD, (0, BACK_SAID), (2, 1, 0)])],
+    "families": [("is_family", [GOOD, (CUT,) * 3]), ("is_family", [GOOD, [list(CUT), CUT, {}]]), ("unlike_road", [GOOD, (CUT,) * 3]),
+                 ("unlike_road", [BAD, (TURN,) * 3]), ("family_by", [CUTS, (0, TURN)]), ("maps_of", [FEW, (2, FEW[1][0][2])]),
+                 ("maps_of", [FEW, (0, (("say", (0,)),))]), ("are_free", [GOOD, (CUT,) * 3, (TURN,) * 3])],
+    "rows": [("is_row", [GOOD, ((CUT,) * 3,), ROW]), ("is_row", [GOOD, ((CUT,) * 3,), [0, [["do", 0]]]]),
+             ("row_led", [GOOD, ((CUT,) * 3,), ROW, WORTH]), ("moved_ahead", [ROW]),
+             ("same_rows", [GOOD, ((CUT,) * 3,), ROW, (0, (("go", 2), ("go", 1)))])],
+    "copies": [("could_have_been", [SMALLS, 0, (((0,), (None, 1)), ((0, 1), (None, 1)))]), ("told_apart", [SMALLS, 0, ((0,), ())]),
+               ("told_apart", [SMALLS, 0, ((0,), (0, 1))]), ("least_tellers", [SMALLS, 0, ((0,), (), ())])],
+    "mends": [("places_of", [BAD]), ("made_plain", [BAD, ((0, 1, 2), (2, 0, 1))]), ("is_mend", [BAD, ((0, 1, 2),)]),
+              ("least_mends", [BAD, ((0, 0, 2), (0, 1, 2), (1, 0, 2), (2, 1, 2))]), ("least_mends", [GOOD, ()])],
+    "fields": [("in_order", [HOUSE, 0, (2, 0, 1)]), ("widened", [HOUSE, "z", ("row", WORD)])],
 }
 
 
@@ -141,6 +155,23 @@ class Calls(unittest.TestCase):
             kept = copy.deepcopy(answer)
             spoiled(answer)
             self.assertEqual(getattr(carrier, name)(*given), kept, name)
+
+    def check_told(self, thing, calls):
+        """What an object tells may be changed, and is told again."""
+        for name, given in calls:
+            answer = getattr(thing, name)(*given)
+            kept = copy.deepcopy(answer)
+            spoiled(answer)
+            self.assertEqual(getattr(thing, name)(*given), kept, name)
+
+    def test_book_and_desk(self):
+        book = importlib.import_module("wherebeen.book").Book(GOOD)
+        book.promise(("sure", 0, "name"))
+        self.check_told(book, (("house_now", []), ("promises", [])))
+        desk = importlib.import_module("wherebeen.desk").Desk(importlib.import_module("wherebeen.texts").show_house(GOOD))
+        self.assertEqual(desk.execute("sure 0 name"), ["done"])
+        self.check_told(desk, [("execute", [line]) for line in ("house", "promises", 'lead 0 1 with "x" [ "a" ] some 1',
+                                                                "same 0 and 0 1 0", "sure 0 name")])
 
 
 if __name__ == "__main__":

@@ -2,7 +2,7 @@
 
 import unittest
 
-from goods import (ALL_MAPS, BITS, COPY, FLIP, FORK, LEFT, ONE, PICK, RIGHT, SETTLED_MAPS, SIX_NINE, SQUARE, ZERO, alike_house,
+from goods import (ALL_MAPS, BITS, COPY, FLIP, FORK, LEFT, ONE, PICK, RIGHT, SETTLED_MAPS, SIX_NINE, ZERO, alike_house,
                    all_copied, any_good_square_house, told_led, told_simple_ways, told_there_and_back, turn_for)
 from samples import any_turn, chance_of, things
 from test_faults import ALONE, ROAD

@@ -175,6 +175,57 @@ STAGE_9 = '''
 [[1, 2], True]
 '''
 
+STAGE_10 = '''
+>>> from wherebeen.deeds import keeps_order, unlike_deed
+>>> from wherebeen.families import are_free, family_by, is_family, unlike_road
+>>> from wherebeen.rows import moved_ahead, row_led
+>>> form = (("a", ("pick", 2)), ("b", ("pick", 2)), ("c", ("word",)))
+>>> left, right = (("say", 0), ("copy", 1), ("copy", 2)), (("copy", 0), ("say", 0), ("copy", 2))
+>>> house = ((form, form, form), ((0, 1, left, left), (0, 2, right, right)))
+>>> swap, new = (("copy", 1), ("copy", 0), ("copy", 2)), (("copy", 0), ("copy", 1), ("say", "new"))
+>>> [unlike_deed(house, (0, swap)), keeps_order(house, (0, new)), is_family(house, family_by(house, (0, new)))]
+[((0, 1), (0, 1, '~2')), True, True]
+>>> [unlike_road(house, (swap, swap, swap)), are_free(house, (new, new, new), (left, left, left))]
+[(0, 0, (0, 1, '~2')), True]
+>>> row = (0, (("go", 1), ("do", 0), ("go", 0), ("go", 1)))
+>>> [moved_ahead(row), row_led(house, ((new, new, new),), row, (1, 1, "x"))]
+[(0, (('do', 0), ('go', 1), ('go', 0), ('go', 1))), (0, 1, 'new')]
+'''
+
+STAGE_11 = '''
+>>> from wherebeen.copies import could_have_been, least_tellers, told_apart
+>>> from wherebeen.fields import in_order
+>>> from wherebeen.mends import is_mend, least_mends, made_plain
+>>> form = (("a", ("pick", 2)), ("b", ("pick", 2)))
+>>> left, right = (("say", 0), ("copy", 1)), (("copy", 0), ("say", 0))
+>>> house = ((form, form, form), ((0, 1, left, left), (0, 2, right, right)))
+>>> [could_have_been(house, 0, (((0,), (0, 1)),))]
+[[(0, 1), (1, 1)]]
+>>> [told_apart(house, 0, ((0,),)), told_apart(house, 0, ((0,), (1,))), least_tellers(house, 0, ((0,), (1,), (0, 1)))]
+[((0, 0), (1, 0)), None, [(0, 1)]]
+>>> in_order(house, 1, (1, 0))[1][0]
+(0, 1, (('copy', 1), ('say', 0)), (('say', 0), ('copy', 0)))
+>>> pick, turned = (("p", ("pick", 2)),), (("table", ("copy", 0), (1, 0)),)
+>>> bad = ((pick, pick), ((0, 1, (("copy", 0),), turned),))
+>>> [least_mends(bad, ((0, 0, 0), (0, 1, 0))), is_mend(bad, ((0, 1, 0),)), made_plain(bad, ((0, 1, 0),))[1]]
+[[((0, 0, 0), (0, 1, 0))], False, ((0, 1, (('copy', 0),), (('say', 0),)),)]
+'''
+
+STAGE_12 = '''
+>>> from wherebeen.book import Book
+>>> from wherebeen.desk import Desk
+>>> form, copy, zero = (("p", ("pick", 2)),), (("copy", 0),), (("say", 0),)
+>>> book = Book(((form, form), ((0, 1, copy, copy),)))
+>>> [book.promise(("sure", 0, "p")), book.add_form(1, form, copy, copy), len(book.house_now()[1]), book.promises()]
+[None, 2, 2, [('sure', 0, 'p')]]
+>>> [book.drop_form(2), book.undo(), book.withdraw(0), book.put_road(0, zero, zero), book.house_now()[1][0][2]]
+[None, None, ('sure', 0, 'p'), None, (('say', 0),)]
+>>> desk = Desk("form\\nfield p pick 2\\nform\\nfield p pick 2\\nroad 0 1\\nthere p copy p\\nback p copy p")
+>>> lines = ["sure 0 p", "put 0 there p say 0 back p say 0", "withdraw 0", "put 0 there p say 0 back p say 0"]
+>>> [desk.execute(line) for line in lines + ["lead 0 1 0 with 1", "same 0 1 0 and 0", "promises"]]
+[['done'], ['refused'], ['done'], ['done'], ['p 0'], ['no'], []]
+'''
+
 
 class Examples(unittest.TestCase):
     def check(self, text):
@@ -210,6 +261,15 @@ class Examples(unittest.TestCase):
 
     def test_joining(self):
         self.check(STAGE_9)
+
+    def test_deeds_and_families(self):
+        self.check(STAGE_10)
+
+    def test_copies_and_mends(self):
+        self.check(STAGE_11)
+
+    def test_book_and_desk(self):
+        self.check(STAGE_12)
 
 
 if __name__ == "__main__":

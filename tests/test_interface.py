@@ -55,6 +55,13 @@ FUNCTIONS = {
     "newforms": "with_form(house, spot, form, there, back) looking_form(house, spot, turn) "
                 "form_fault(house, spot, form, there, back) clash(form, one, other)",
     "deeds": "is_deed(house, thing) keeps_order(house, deed) unlike_deed(house, deed) deed_by(house, deed, way)",
+    "families": "is_family(house, thing) are_free(house, turns, other) unlike_road(house, turns) family_by(house, deed) "
+                "maps_of(house, deed)",
+    "rows": "is_row(house, families, thing) same_rows(house, families, row, other) row_led(house, families, row, worth) "
+            "moved_ahead(row)",
+    "copies": "could_have_been(house, spot, copies) least_tellers(house, spot, lots) told_apart(house, spot, lots)",
+    "mends": "places_of(house) least_mends(house, places) made_plain(house, places) is_mend(house, places)",
+    "fields": "in_order(house, spot, order) widened(house, name, kind)",
 }
 
 CLASSES = {
@@ -62,6 +69,10 @@ CLASSES = {
                             "fork(self, name, fresh) drop(self, name) spot_of(self, name) worth_of(self, name) "
                             "way_of(self, name) gone_of(self, name) names_now(self) deeds_done(self) undo(self) "
                             "copied(self)",
+    ("book", "Book"): "__init__(self, house) add_form(self, spot, form, there, back) add_road(self, one, other, there, back) "
+                      "put_road(self, index, there, back) drop_road(self, index) drop_form(self, spot) promise(self, thing) "
+                      "undo(self) withdraw(self, index) house_now(self) promises(self) twin(self)",
+    ("desk", "Desk"): "__init__(self, text) execute(self, line) book(self)",
 }
 
 

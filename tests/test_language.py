@@ -85,7 +85,12 @@ class Language(unittest.TestCase):
                 where = f"{path.name}:{node.lineno}"
                 if isinstance(node, ast.Assign):
                     self.assertEqual([type(target) for target in node.targets], [ast.Name], where)
-                    ast.literal_eval(node.value)
+                    made = {item.name for item in tree.body[:index] if isinstance(item, ast.FunctionDef)}
+                    if isinstance(node.value, ast.Dict) and isinstance(node.value.values[0], ast.Name):
+                        ast.literal_eval(ast.Tuple(node.value.keys, ast.Load()))
+                        self.assertLessEqual({item.id for item in node.value.values}, made, where)
+                    else:
+                        ast.literal_eval(node.value)
                     bound.append(node.targets[0].id)
                 elif isinstance(node, ast.Expr):
                     self.assertEqual(index, 0, where)
@@ -125,6 +130,8 @@ class Language(unittest.TestCase):
             self.assertNotIsInstance(node, BARRED, where)
             if isinstance(node, (ast.FunctionDef, ast.ClassDef)):
                 self.assertEqual(node.decorator_list, [], where)
+            if isinstance(node, ast.ExceptHandler):
+                self.assertIn(getattr(node.type, "id", None), self.defined(FOLDER / "errors.py"), where)
             if isinstance(node, ast.Expr) and not isinstance(node.value, ast.Constant):
                 self.assertIsInstance(node.value, ast.Call, where)
             if isinstance(node, ast.Compare):

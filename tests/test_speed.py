@@ -3,11 +3,15 @@
 import time
 import unittest
 
-from goods import SIX_NINE, TWO, alike_house, all_copied
+from goods import SIX_NINE, SQUARE, TWO, alike_house, all_copied, turn_for
 from samples import WORD
+from wherebeen.book import Book
 from wherebeen.charters import breaking_way, greatest_charters, is_charter, lot_of
+from wherebeen.copies import could_have_been, least_tellers, told_apart
 from wherebeen.deeds import deed_by, keeps_order, unlike_deed
+from wherebeen.desk import Desk
 from wherebeen.elements import element_of, is_element, lost
+from wherebeen.families import are_free, family_by, is_family, maps_of, unlike_road
 from wherebeen.fates import become, lost_field, sure_fields
 from wherebeen.faults import faults_of, first_fault, is_fault
 from wherebeen.goodlots import fewest_cuts, greatest_good, is_good_lot, least_bad
@@ -15,6 +19,7 @@ from wherebeen.goneback import gone_back, gone_to, merging_lots
 from wherebeen.homes import homes_of, passes
 from wherebeen.hubs import hub_of, hub_size, is_hub
 from wherebeen.joining import join_fault
+from wherebeen.mends import is_mend, least_mends, places_of
 from wherebeen.newforms import clash, form_fault
 from wherebeen.numbers import is_whole, whole_of
 from wherebeen.outcomes import gone_lots, hangs_on_gone, is_good_by_all, outcomes
@@ -23,7 +28,9 @@ from wherebeen.pasts import first_worth, greatest_past, pasts_of, surely_not_gon
 from wherebeen.probes import tests_many
 from wherebeen.returns import change_returns, is_lossless, returned
 from wherebeen.rings import is_still, round_of, still_rings
+from wherebeen.rows import is_row, row_led, same_rows
 from wherebeen.shortcuts import agrees, may_add, road_by
+from wherebeen.texts import show_house
 
 SECONDS = 10
 FORM = (("a", ("pick", 4)), ("b", ("pick", 4)), ("w", WORD), ("m", ("maybe", WORD)), ("t", TWO))
@@ -146,6 +153,59 @@ class Speed(unittest.TestCase):
         self.assertIsNotNone(self.timed(clash, FORM, LOSING[0], short))
         plain = alike_house(FORM, SIX_NINE, [all_copied(FORM)] * 9)
         self.assertEqual(self.timed(deed_by, plain, (5, LOSING[0]), (0, 3, 1, 4, 2, 5)), (0, LOSING[0]))
+
+    def test_of_families_and_rows(self):
+        for house in (RING, GOOD):
+            many = len(house[0])
+            family, other = (LOSING[1],) * many, (LOSING[0],) * many
+            self.assertIs(self.timed(is_family, house, family), True)
+            self.assertEqual(self.timed(unlike_road, house, (TURNING[0],) * many)[0], 0)
+            self.assertIs(self.timed(are_free, house, family, other), True)
+            first = (0, tuple([("go", 3), ("go", 0), ("do", 0), ("do", 1)] * 30))
+            last = (0, tuple([("do", 1), ("go", 3), ("do", 0), ("go", 0)] * 30))
+            self.assertIs(self.timed(is_row, house, (family, other), first), True)
+            self.assertIs(self.timed(same_rows, house, (family, other), first, last), True)
+            self.assertEqual(self.timed(row_led, house, (family, other), first, WORTH)[0], 0)
+        short = alike_house(FORM, [(0, 1), (0, 2), (1, 3)], [(("say", 0),) + all_copied(FORM)[1:]] * 3, 4)
+        self.assertEqual(len(self.timed(family_by, short, (0, (("say", 0),) + PLAIN[1:2] + all_copied(FORM)[2:]))), 4)
+        squares = alike_house(SQUARE, SIX_NINE, [turn_for((0, 0, 2, 2)), turn_for((0, 1, 0, 1)), all_copied(SQUARE)] * 3)
+        for row, wanted in (((0, 1, 2, 3), True), ((0, 0, 2, 2), True), ((2, 2, 2, 2), False)):
+            for spot in (0, 5):
+                self.assertIs(self.timed(maps_of, squares, (spot, turn_for(row))) is not None, wanted)
+
+    def test_of_copies_and_mends(self):
+        form = FORM[:2] + (("m", ("maybe", TWO)), ("t", ("pick", 1)))
+        turns = [turn[:2] + (("copy", 2), ("copy", 3)) for turn in LOSING[:3] + TURNING[:1]]
+        house = alike_house(form, [(0, 1), (0, 3), (1, 2), (2, 3)], turns[:3] + turns[:1], 4)
+        lots = ((0,), (1,), (0, 1), (0, 1, 2, 3), (), (0, 2), (1, 3), (0, 1, 3))
+        self.assertGreater(len(self.timed(could_have_been, house, 0, (((0,), (0, 1, None, 0)),))), 1)
+        self.assertIsNone(self.timed(told_apart, house, 0, lots))
+        self.assertEqual(self.timed(least_tellers, house, 0, lots), [(0, 1), (1, 5), (4,)])
+        bad = alike_house(FORM, [(0, 1), (0, 3), (1, 2), (2, 3)], LOSING[:3] + TURNING[:1], 4)
+        for house, wanted in ((bad, [((3, 0, 0), (3, 1, 0))]), (BAD, [])):
+            places = tuple(places_of(house))
+            self.assertEqual(self.timed(least_mends, house, places[-12:]), wanted)
+            self.assertIs(self.timed(is_mend, house, places), True)
+
+    def test_of_a_book_and_a_desk(self):
+        book = self.timed(Book, RING)
+        for spot in range(4):
+            self.timed(book.promise, ("order", spot, LOSING[1]))
+        first = alike_house(FORM, [(0, 1), (0, 3), (1, 2), (2, 3)], [LOSING[0], LOSING[1], LOSING[1], LOSING[0]], 4)
+        book = self.timed(Book, first)
+        for spot in range(4):
+            for promise in (("sure", spot, "w"), ("sure", spot, "m"), ("order", spot, LOSING[0])):
+                self.timed(book.promise, promise)
+        self.assertEqual(self.timed(book.add_form, 2, FORM, LOSING[0], LOSING[0]), 4)
+        self.timed(book.add_road, 0, 2, LOSING[1], LOSING[1])
+        self.timed(book.put_road, 0, LOSING[1], LOSING[1])
+        self.timed(book.drop_road, 1)
+        self.timed(book.drop_form, 4)
+        self.assertEqual(len(self.timed(book.twin).promises()), 12)
+        desk = self.timed(Desk, show_house(first))
+        for line, wanted in (("copy form 1", ["done"]), ("sure 0 t", ["done"]), ("put 1 there t say 1 back t say 1", ["refused"]),
+                             ("same 0 1 0 and " + "0 1 0 3 " * 200 + "0", ["no"]), ("drop form 0", ["refused"]), ("undo", ["done"]), ("drop form 0", ["done"])):
+            self.assertEqual(self.timed(desk.execute, line), wanted)
 
 
 if __name__ == "__main__":

@@ -92,4 +92,4 @@ def greatest_charters(form, turns):
     for at in settled:
         friends[at] = [near for near in settled if do_change_places(tests, doings[at], doings[near])]
     lots = friendly_lots(friends)
-    return sorted([lot for lot in lots if not any([at not in lot and joins(friends, lot, at) for at in settled])])
+    return sorted([lot for lot in lots if not any([new not in lot and joins(friends, lot, new) for new in settled])])

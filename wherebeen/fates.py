@@ -107,11 +107,8 @@ def sure_fields(house, spot):
     return tuple([name for at, name in enumerate(names) if not levels_to_loss(guide, spot, at)])
 
 
-def lost_field(house, spot, name):
-    """None if a field of a form is sure, otherwise the shortest way that loses it, and the first test that lost it."""
-    guide = Guide(house)
-    at = field_of(house[0][spot], name)
-    ask_spread(guide, spot)
+def lost_field_by(guide, spot, at):
+    """As lost_field, of the field with an index, in a house whose worths do not become too many."""
     levels = levels_to_loss(guide, spot, at)
     if not levels:
         return None
@@ -119,3 +116,11 @@ def lost_field(house, spot, name):
     tests = guide.tests[spot]
     kept = [guide.worth_for(spot, number)[at] for number in guide.led_all(way, tests)]
     return (way, guide.first_unlike(spot, [guide.worth_for(spot, number)[at] for number in tests], kept))
+
+
+def lost_field(house, spot, name):
+    """None if a field of a form is sure, otherwise the shortest way that loses it, and the first test that lost it."""
+    guide = Guide(house)
+    at = field_of(house[0][spot], name)
+    ask_spread(guide, spot)
+    return lost_field_by(guide, spot, at)

@@ -64,7 +64,7 @@ def merging_lots(house, spot, one, other):
     guide = good_guide(house)
     numbers = [guide.number_for(spot, one), guide.number_for(spot, other)]
     found = []
-    for _, lot in sorted([(len(lot), lot) for lot in gone_lots(house, spot)]):
+    for _, lot in sorted([(len(gone), gone) for gone in gone_lots(house, spot)]):
         if not any([is_within(less, lot) for less in found]):
             outcomes = guide.led_all(way_round(house, spot, lot), numbers)
             if outcomes[0] == outcomes[1]:

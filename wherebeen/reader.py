@@ -7,13 +7,17 @@ from wherebeen.parts import fits_kind, gathered, inner_kinds, inner_parts, with_
 from wherebeen.worths import field_names
 
 
-def take_number(line, least, most):
-    """Takes an integer from least to most."""
-    token = line.take()
+def number_of(line, token, least, most):
+    """The integer from least to most whose writing is a token."""
     for number in range(least, most + 1):
         if token == str(number):
             return number
     raise NoText(line.number)
+
+
+def take_number(line, least, most):
+    """Takes an integer from least to most."""
+    return number_of(line, line.take(), least, most)
 
 
 def base_of(line, token):
