@@ -144,6 +144,14 @@ class DeedBy(unittest.TestCase):
         self.check(CARDS, (1, (("else", ("copy", 1), ("copy", 0)), ("say", None))), (0, 1))
         self.check(CARDS, (0, (("say", "x"), ("say", ("a", "b")))), (1, 0))
 
+    def test_forms_with_more_fields_and_with_less(self):
+        there, back = (("copy", 1),), (("say", 0), ("copy", 0), ("say", "x"))
+        house = ((BITS, PICK), ((0, 1, there, back),))
+        self.assertEqual(self.check(house, (1, FLIP), (0, 1)), (0, (("say", 0), ("table", ("copy", 1), (1, 0)), ("say", "x"))))
+        self.assertEqual(self.check(house, (0, LEFT), (1, 0)), (1, COPY))
+        self.assertEqual(self.check(house, (1, FLIP), (1,)), (1, FLIP))
+        self.assertEqual(self.check(house, (0, SWAP), (1, 0)), (1, ZERO))
+
     def test_keeps_order_if_the_deed_does(self):
         kept = 0
         for seed in range(400):

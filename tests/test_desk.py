@@ -254,7 +254,7 @@ class Questions(Desks):
             self.assertEqual(desk.execute(line), [wanted], line)
         self.assertEqual(desk_of(CARDS).execute("same 1 and 1 0 1"), ["yes"])
         self.assertEqual(desk_of(CARDS).execute("same 0 and 0 1 0"), ["no"])
-        self.no_command(desk, "same 0 and 1", "same 0 1 and 0", "same 0 1 and 0 2", "same 0 1 and 2 1", "same 0", "same 0 and", "same and 0",
+        self.no_command(desk, "same 1 0 and 2 0", "same 1 and 0 1", "same 0 and 1", "same 0 1 and 0", "same 0 1 and 0 2", "same 0 1 and 2 1", "same 0", "same 0 and", "same and 0",
                         "same and", "same", "same 0 and 0 and 0", "same 0 1 2 and 0 2", "same 0 with 0", "same 0 1 0 0 1 0", "same 0 and 00",
                         'same 0 "and" 0', "same 3 and 3", "same 1 2 and 1 2")
 

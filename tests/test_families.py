@@ -132,9 +132,13 @@ class IsFamily(unittest.TestCase):
             with self.assertRaises(TooMany) as caught:
                 call(MORE_HOUSE, turns)
             self.assertEqual(caught.exception.most, 500)
-        for thing in (None, (), [turns]):
+        for thing in (None, (), [turns], (ZERO,) + turns[1:]):
             with self.assertRaises(TooMany):
                 is_family(MORE_HOUSE, thing)
+        # also if the first road tells, and no form with many tests is at it
+        with self.assertRaises(TooMany) as caught:
+            unlike_road(MORE_HOUSE, (ZERO,) + turns[1:])
+        self.assertEqual(caught.exception.most, 500)
         self.check(JUST_HOUSE, tuple(plain_turn(form) for form in JUST_HOUSE[0]), None)
 
 

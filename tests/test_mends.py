@@ -111,6 +111,11 @@ class Mends(unittest.TestCase):
         self.assertEqual(least_mends(ones, tuple(places_of(ones))), told_mends(ones, tuple(places_of(ones))))
         self.assertEqual(least_mends(ones, tuple(places_of(ones))), [((0, 0, 0), (1, 0, 0))])
 
+    def test_one_place_and_two_in_order(self):
+        house = ((PICK,) * 3, ((0, 1, FLIP, FLIP), (0, 2, ONE, ZERO), (1, 2, FLIP, FLIP)))
+        self.assertEqual(least_mends(house, tuple(places_of(house))), [((0, 0, 0), (0, 1, 0)), ((1, 0, 0),)])
+        self.assertEqual(told_mends(house, tuple(places_of(house))), [((0, 0, 0), (0, 1, 0)), ((1, 0, 0),)])
+
     def test_none_that_lies_in_another(self):
         found = least_mends(TURNING, tuple(places_of(TURNING)))
         self.assertEqual(found, told_mends(TURNING, tuple(places_of(TURNING))))
