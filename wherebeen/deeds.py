@@ -36,7 +36,7 @@ def deed_along(house, deed, way):
     """As deed_by, of any house."""
     form = house[0][way[0]]
     done = plain_turn(form)
-    for turn in [*way_turns(house, way), deed[1], *way_turns(house, way[::-1])]:
+    for turn in way_turns(house, way) + [deed[1]] + way_turns(house, way[::-1]):
         done = behind(done, turn)
     return (way[0], done)
 
